@@ -1,0 +1,1 @@
+"""Namelines: houses that learn where names lie."""
