@@ -1,7 +1,7 @@
 """The tree of each piece: how far each house is from its root, and by which line it hangs."""
 
 from namelines.kinds import is_same
-from namelines.weavings import pieces, steps
+from namelines.weavings import other_end, pieces, steps
 
 
 def fars_from(ahead, root):
@@ -53,15 +53,13 @@ def way_to_root(weaving, told, house):
     root, far, up = told[here]
     while up != -1:
         way.append(up)
-        one, other, cost, groups, strands = weaving[1][up]
-        here = other if here == one else one
+        here = other_end(weaving, up, here)
         root, far, up = told[here]
     return way
 
 
-def way_between(weaving, falls, group, one, other):
-    """The list of the tree's lines from a house to another, None where they aren't in one piece."""
-    told = tree(weaving, falls, group)
+def way_in(weaving, told, one, other):
+    """What way_between tells; told is what tree tells."""
     if told[one] is None or told[other] is None or told[one][0] != told[other][0]:
         return None
     upward = way_to_root(weaving, told, one)
@@ -71,6 +69,11 @@ def way_between(weaving, falls, group, one, other):
         upward.pop()
         downward.pop()
     return upward + downward[::-1]
+
+
+def way_between(weaving, falls, group, one, other):
+    """The list of the tree's lines from a house to another, None where they aren't in one piece."""
+    return way_in(weaving, tree(weaving, falls, group), one, other)
 
 
 def shows_tree(weaving, falls, group, thing):

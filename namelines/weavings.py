@@ -38,6 +38,25 @@ def is_weaving(thing):
     return all([is_line(line, len(houses)) for line in lines])
 
 
+def is_place(weaving, thing):
+    if not is_tuple_of(thing, 2):
+        return False
+    house, door = thing
+    return is_number_below(house, len(weaving[0])) and is_number_below(door, len(weaving[0][house]))
+
+
+def group_at(weaving, place):
+    """The group of a place's door."""
+    house, door = place
+    return weaving[0][house][door]
+
+
+def places_at(weaving, group, house):
+    """The rising list of a house's places of the group."""
+    places = [(house, door) for door in range(len(weaving[0][house]))]
+    return [place for place in places if group_at(weaving, place) == group]
+
+
 def is_strand(weaving, thing):
     if not is_tuple_of(thing, 2):
         return False
@@ -78,6 +97,18 @@ def strands_of(weaving, line):
     return weaving[1][line][4]
 
 
+def ends_of(weaving, line):
+    """The pair of the houses that a line joins."""
+    one, other, cost, groups, strands = weaving[1][line]
+    return (one, other)
+
+
+def other_end(weaving, line, house):
+    """The house to which a line leads from a house."""
+    one, other = ends_of(weaving, line)
+    return other if house == one else one
+
+
 def whole_strands(weaving, falls, line):
     """The rising list of the numbers of a line's whole strands, whether or not its houses are whole."""
     return [number for number in range(strands_of(weaving, line)) if (line, number) not in falls[1]]
@@ -90,7 +121,7 @@ def whole_houses(weaving, falls):
 
 def stands(weaving, falls, line):
     """Whether both houses of a line and at least one of its strands are whole."""
-    one, other, cost, groups, strands = weaving[1][line]
+    one, other = ends_of(weaving, line)
     if one in falls[0] or other in falls[0]:
         return False
     return len(whole_strands(weaving, falls, line)) > 0

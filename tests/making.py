@@ -73,6 +73,18 @@ def made_weaving(dice, most_houses=7, most_lines=12, costs=4):
     return (houses, tuple(lines))
 
 
+def dense_weaving(dice):
+    """Few groups, many doors and lines: names often lie in one group and piece."""
+    many = 3 + dice.below(5)
+    houses = tuple(tuple(dice.below(2) for door in range(1 + dice.below(3))) for house in range(many))
+    lines = []
+    for line in range(many + dice.below(6)):
+        one = dice.below(many - 1)
+        groups = ((0, 1), (0, 1), (0,), (1,))[dice.below(4)]
+        lines.append((one, one + 1 + dice.below(many - 1 - one), 1 + dice.below(4), groups, 1 + dice.below(4)))
+    return (houses, tuple(lines))
+
+
 def made_falls(dice, weaving, rarely=5):
     houses = tuple(house for house in range(len(weaving[0])) if dice.below(rarely) == 0)
     strands = tuple(strand for strand in all_strands(weaving) if dice.below(2) == 0)

@@ -23,9 +23,54 @@ INTERFACE = {
         "told_rows": "weaving falls group",
         "shows_rows": "weaving falls group thing",
     },
+    "handing": {
+        "ways_at": "weaving falls group house",
+        "take": "table letter way ways",
+        "strand_of": "sender to numbers",
+    },
+    "letters": {
+        "shows_sent": "weaving falls group place thing",
+        "reached": "weaving falls group house",
+    },
+    "tables": {
+        "Table": "room age",
+    },
+    "posts": {
+        "Post": "weaving room age",
+    },
     "errors": {
         "BadRow": "row",
         "BadSheet": "row",
+    },
+}
+
+METHODS = {
+    ("tables", "Table"): {
+        "hear": "group name way",
+        "way_of": "group name",
+        "forget": "way",
+        "drop_lines": "group",
+        "tick": "many",
+        "entries": "",
+        "now": "",
+        "twin": "",
+    },
+    ("posts", "Post"): {
+        "lay": "name house door",
+        "lift": "name",
+        "place_of": "name",
+        "send": "sender to",
+        "would": "sender to",
+        "fall": "line number",
+        "mend": "line number",
+        "break_house": "house",
+        "mend_house": "house",
+        "falls": "",
+        "tick": "many",
+        "now": "",
+        "entries": "house",
+        "wrong": "",
+        "twin": "",
     },
 }
 
@@ -39,6 +84,14 @@ class Interface(unittest.TestCase):
                     function = getattr(module, name)
                     self.assertEqual(function.__module__, module.__name__)
                     self.assertEqual(list(inspect.signature(function).parameters), arguments.split())
+
+    def test_methods_stand_in_the_class_itself(self):
+        for (file, name), methods in METHODS.items():
+            found = vars(getattr(importlib.import_module("namelines." + file), name))
+            for method, arguments in methods.items():
+                with self.subTest(f"{name}.{method}"):
+                    self.assertTrue(inspect.isfunction(found.get(method)))
+                    self.assertEqual(list(inspect.signature(found[method]).parameters), ["self"] + arguments.split())
 
 
 if __name__ == "__main__":

@@ -167,6 +167,39 @@ class Language(unittest.TestCase):
                 self.assertNotIn("%", node.value, at)
                 self.assertFalse(node.value.endswith(("._", ".__")), at)
 
+    def test_l18_methods_and_attributes(self):
+        methods = {node.name for at, kind in self.nodes(ast.ClassDef) for node in kind.body
+                   if isinstance(node, ast.FunctionDef)}
+        assigned = {node.attr for at, node in self.nodes(ast.Attribute) if isinstance(node.ctx, ast.Store)}
+        self.assertEqual(methods & assigned, set())
+        self.assertEqual(assigned & METHODS, set())
+        called = {id(node.func) for at, node in self.nodes(ast.Call)}
+        for at, node in self.nodes(ast.Attribute):
+            if isinstance(node.ctx, ast.Load) and id(node) not in called:
+                self.assertIn(node.attr, assigned, at)
+        for at, kind in self.nodes(ast.ClassDef):
+            names = [node.name for node in kind.body if isinstance(node, ast.FunctionDef)]
+            self.assertEqual(len(names), len(set(names)), at)
+
+    def test_l19_raise_makes_its_error_on_the_spot(self):
+        for at, node in self.nodes(ast.Raise):
+            self.assertIsInstance(node.exc, ast.Call, at)
+            self.assertIsInstance(node.exc.func, ast.Name, at)
+            self.assertEqual(node.exc.keywords, [], at)
+
+    def test_l23_l24_loops(self):
+        # What is iterated over isn't changed in the loop; sets are sorted or asked, not iterated over.
+        changes = {"append", "clear", "extend", "insert", "pop", "remove", "reverse", "setdefault", "update", "sort"}
+        for at, node in self.nodes(ast.For):
+            over = ast.dump(node.iter)
+            for part in ast.walk(ast.Module(node.body, [])):
+                if isinstance(part, ast.Call) and isinstance(part.func, ast.Attribute) and part.func.attr in changes:
+                    self.assertNotIn(ast.dump(part.func.value), over, at)
+                if isinstance(part, ast.Subscript) and not isinstance(part.ctx, ast.Load):
+                    self.assertNotIn(ast.dump(part.value), over, at)
+        for at, node in self.nodes(ast.For, ast.comprehension):
+            self.assertNotIsInstance(node.iter, (ast.Set, ast.SetComp), at)
+
     def test_l20_is(self):
         for at, node in self.nodes(ast.Compare):
             for sign, right in zip(node.ops, node.comparators):
