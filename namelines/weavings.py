@@ -133,6 +133,17 @@ def standing(weaving, falls, group):
     return [line for line in range(len(lines)) if group in lines[line][3] and stands(weaving, falls, line)]
 
 
+def carrying_strands(weaving, falls, group):
+    """The rising list of the whole strands of the lines that stand and carry the group."""
+    lines = standing(weaving, falls, group)
+    return [(line, number) for line in lines for number in whole_strands(weaving, falls, line)]
+
+
+def with_fallen(falls, strands):
+    """The falls where these strands, whole so far, are fallen as well."""
+    return (falls[0], tuple(sorted([*falls[1], *strands])))
+
+
 def steps(weaving, falls, group):
     """For each house the list of tuples (house, line, cost): where standing lines of the group lead from it."""
     houses, lines = weaving

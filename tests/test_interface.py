@@ -32,6 +32,21 @@ INTERFACE = {
         "shows_sent": "weaving falls group place thing",
         "reached": "weaving falls group house",
     },
+    "spare": {
+        "apart": "weaving falls group one other",
+    },
+    "sparecheck": {
+        "shows_parting": "weaving falls group one other thing",
+        "shows_ways": "weaving falls group one other thing",
+        "weakest": "weaving falls group",
+    },
+    "texts": {
+        "weaving_text": "weaving",
+        "weaving_from": "text",
+    },
+    "desk": {
+        "answers": "text",
+    },
     "tables": {
         "Table": "room age",
     },

@@ -4,11 +4,14 @@ import unittest
 
 from namelines.letters import reached, shows_sent
 from namelines.posts import Post
+from namelines.spare import apart
+from namelines.sparecheck import shows_parting, shows_ways
 from namelines.telling import told_rows
 from namelines.trees import tree, way_between
 from namelines.weavings import groups_of
 from tests import making
 from tests.slowpost import NAMES, outcome, thrown_deed
+from tests.test_spare import whole_pairs
 
 
 def group_of(weaving, place):
@@ -153,6 +156,33 @@ class TheWhole(unittest.TestCase):
                             tried += 1
                             self.assertIn(goal, post.send(name, other)[0])
         self.assertGreater(tried, 50)
+
+    def test_as_many_ways_as_strands_that_part_two_houses(self):
+        dice = making.Dice(53)
+        parted = 0
+        for case in range(30):
+            run = Run(self, dice, 4, 4)
+            for step in range(20):
+                run.deed()
+            post, weaving, falls = run.post, run.weaving, run.post.falls()
+            for one, other in whole_pairs(weaving, falls):
+                for group in groups_of(weaving):
+                    strands, ways = apart(weaving, falls, group, one, other)
+                    self.assertEqual(len(strands), len(ways))
+                    self.assertIs(shows_parting(weaving, falls, group, one, other, strands), True)
+                    self.assertIs(shows_ways(weaving, falls, group, one, other, ways), True)
+                    # Each way goes by one of the strands, so none of these can be left whole.
+                    self.assertTrue(all(set(way) & set(strands) for way in ways))
+                    parted += self.look_at_parting(post.twin(), weaving, group, one, other, strands)
+        self.assertGreater(parted, 300)
+
+    def look_at_parting(self, post, weaving, group, one, other, strands):
+        """Where the strands fall one by one, the last one parts the houses."""
+        for strand in strands:
+            self.assertIsNotNone(way_between(weaving, post.falls(), group, one, other))
+            post.fall(*strand)
+        self.assertIsNone(way_between(weaving, post.falls(), group, one, other))
+        return len(strands) > 0
 
     def test_a_name_that_has_moved_may_be_missed_until_then(self):
         weaving = (((0,), (0,), (0,)), ((0, 1, 1, (0,), 1), (1, 2, 1, (0,), 1)))
