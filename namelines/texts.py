@@ -38,9 +38,8 @@ def line_of(numbers):
 
 def put_row(houses, lines, words):
     """Whether a row of these words can stand behind these houses and lines; where it can, it's put behind them."""
+    # A word that isn't a number is None here, which is no part of a house or a line.
     numbers = [number_from(word) for word in words[1:]]
-    if None in numbers:
-        return False
     if words[0] == "house" and not lines and are_groups(tuple(numbers)):
         houses.append(tuple(numbers))
         return True

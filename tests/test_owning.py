@@ -31,27 +31,35 @@ def spoil(thing):
         part.reverse()
 
 
-class Owning(unittest.TestCase):
+class Asked:
+    """What holds of all that can be asked; all_asks() gives these asks as functions without arguments."""
+
     def test_changing_what_was_told_changes_nothing_told_later(self):
-        for case in CASES:
-            for ask in asks(*case):
-                kept = copy.deepcopy(ask())
-                spoil(ask())
-                self.assertEqual(repr(ask()), repr(kept))
+        for ask in self.all_asks():
+            kept = copy.deepcopy(ask())
+            spoil(ask())
+            self.assertEqual(repr(ask()), repr(kept))
 
     def test_what_was_told_stays_when_something_else_is_asked(self):
-        told = [ask() for case in CASES for ask in asks(*case)]
+        told = [ask() for ask in self.all_asks()]
         kept = copy.deepcopy(told)
-        for case in CASES:
-            for ask in asks(*case):
-                spoil(ask())
+        for ask in self.all_asks():
+            spoil(ask())
         self.assertEqual(told, kept)
 
     def test_no_two_told_lists_are_one_and_the_same(self):
-        told = [ask() for case in CASES for ask in asks(*case)]
-        told += [ask() for case in CASES for ask in asks(*case)]
+        told = [ask() for again in range(2) for ask in self.all_asks()]
         found = [part for thing in told for part in making.lists_in(thing)]
         self.assertEqual(len({id(part) for part in found}), len(found))
+
+    def test_asked_again_all_is_told_the_same(self):
+        for ask in self.all_asks():
+            self.assertEqual(repr(ask()), repr(ask()))
+
+
+class Owning(Asked, unittest.TestCase):
+    def all_asks(self):
+        return [ask for case in CASES for ask in asks(*case)]
 
     def test_kinds_of_what_is_told(self):
         for weaving, falls, group in CASES:

@@ -9,7 +9,7 @@ from namelines.sparecheck import shows_parting, shows_ways, weakest
 from namelines.texts import weaving_from, weaving_text
 from tests import making
 from tests.making import JUNK, SAMPLE, WHOLE
-from tests.test_owning import spoil
+from tests.test_owning import Asked
 from tests.test_owning_objects import kinds_in
 from tests.test_spare import whole_pairs
 
@@ -28,38 +28,16 @@ def asks(weaving, falls, group):
     yield lambda: answers(weaving_text(weaving) + DEEDS)
 
 
-class Owning(unittest.TestCase):
-    def test_changing_what_was_told_changes_nothing_told_later(self):
-        for case in CASES:
-            for ask in asks(*case):
-                kept = copy.deepcopy(ask())
-                spoil(ask())
-                self.assertEqual(repr(ask()), repr(kept))
-
-    def test_what_was_told_stays_when_something_else_is_asked(self):
-        told = [ask() for case in CASES for ask in asks(*case)]
-        kept = copy.deepcopy(told)
-        for case in CASES:
-            for ask in asks(*case):
-                spoil(ask())
-        self.assertEqual(told, kept)
-
-    def test_no_two_told_lists_are_one_and_the_same(self):
-        told = [ask() for case in CASES + CASES for ask in asks(*case)]
-        found = [part for thing in told for part in making.lists_in(thing)]
-        self.assertEqual(len({id(part) for part in found}), len(found))
+class Owning(Asked, unittest.TestCase):
+    # Which strands and ways are told isn't promised, but asked again the same ones are told.
+    def all_asks(self):
+        return [ask for case in CASES for ask in asks(*case)]
 
     def test_empty_lists_are_lists_of_their_own_too(self):
         one, other = apart(SAMPLE, WHOLE, 7, 0, 1), apart(SAMPLE, WHOLE, 7, 0, 1)
         told = [*one, *other, weakest(SAMPLE, WHOLE, 7), weakest(SAMPLE, WHOLE, 7), answers("house\npost 1 1")]
         self.assertEqual(told, [[]] * 7)
         self.assertEqual(len({id(part) for part in told}), 7)
-
-    def test_asked_again_all_is_told_the_same(self):
-        # Which strands and ways are told isn't promised, but the same ones are told again.
-        for case in CASES:
-            for ask in asks(*case):
-                self.assertEqual(repr(ask()), repr(ask()))
 
     def test_kinds_of_what_is_told(self):
         weaving = (((), ()), ((0, 1, 1, (0,), 1),))

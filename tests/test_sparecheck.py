@@ -190,6 +190,29 @@ class ShowsWays(unittest.TestCase):
             [[(0, 0), (0, 1)]], [[(4, 0)]],
         ])
 
+    def test_a_strand_that_does_not_begin_where_the_way_stands(self):
+        # Each ends at the house to which it should lead, or begins there.
+        self.check_all(False,
+                       [[[(5, 0)]], [[(4, 0)]], [[(0, 0), (4, 0)]], [[(1, 0), (5, 0)]], [[(0, 0), (2, 0), (5, 0)]]])
+        self.check_all(False,
+                       [[[(0, 0)]], [[(1, 0)]], [[(5, 0), (1, 0)]], [[(4, 0), (0, 0)]], [[(5, 0), (5, 1), (0, 0)]]],
+                       one=3, other=0)
+        self.check_all(False, [[[(5, 0)]], [[(1, 0), (5, 0)]], [[(4, 0), (2, 0)], [(0, 0), (5, 0)]]], one=2, other=1)
+        self.check_all(True, [[[(2, 0)]], [[(1, 0), (0, 0)]], [[(4, 0), (5, 0)], [(2, 0)]]], one=2, other=1)
+
+    def test_strands_thrown_together(self):
+        dice = making.Dice(75)
+        told = {False: 0, True: 0}
+        for case in range(6000):
+            one = dice.below(4)
+            other = (one + 1 + dice.below(3)) % 4
+            strands = making.all_strands(SAMPLE)
+            thing = [[strands[dice.below(len(strands))] for strand in range(1 + dice.below(3))] for way in range(1 + dice.below(2))]
+            wanted = slowdesk.slow_shows_ways(SAMPLE, WHOLE, 0, one, other, thing)
+            self.assertIs(shows_ways(SAMPLE, WHOLE, 0, one, other, thing), wanted, thing)
+            told[wanted] += 1
+        self.assertGreater(min(told.values()), 200)
+
     def test_an_empty_way(self):
         self.check_all(False, [[[]], [[], [(0, 0), (5, 0)]], [[(0, 0), (5, 0)], []], [[], []]])
         self.check_all(False, [[[]]], other=4)
